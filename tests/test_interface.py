@@ -1,0 +1,86 @@
+"""The names of the interface: each is defined in its file, with its arguments, in their order."""
+
+import importlib
+import inspect
+import unittest
+
+from soldwhole import errors
+
+FUNCTIONS = {
+    "fractions": "reduced(n, d); added(one, other); lessened(one, other); times(one, other); over(one, other); "
+    "least_of(fractions); greatest_of(fractions); total(fractions); compared(one, other); fraction_text(one); "
+    "fraction_in(text)",
+    "forms": "is_integer(thing); is_fraction(thing); is_amount(thing); is_name(thing); is_curve(thing); "
+    "is_claim(ranks, thing); is_holding(ranks, thing); is_firm(thing); is_web(thing); are_amounts(web, thing); "
+    "are_choices(web, thing); are_payments(web, thing); firm_of(web, name); held_by(web, holder); "
+    "choosing_of(web, person)",
+    "curves": "curve(corners, slope); nothing(); added_up(curves); greatest(curves); capped(curve, amount); "
+    "scaled(curve, factor); corners_many(curve); levels_of(curves); crossings(one, other); is_bounded(curve); "
+    "most_of(curve); pay_at(curve, level); rises_at(curve, level); rose_to(curve, level)",
+    "curvebacks": "level_for(curve, pay); first_over(one, other); same_up_to(one, other); by_pay(curve, other); "
+    "is_under(one, other)",
+}
+
+ERRORS = {
+    "Circle": ("names",),
+    "NoCommand": ("line",),
+    "NoDeed": ("index",),
+    "NoPrice": (),
+    "NoText": ("line", "column"),
+    "NotFounded": ("name",),
+    "Nothing": (),
+    "TooMany": ("most",),
+    "Wrong": ("place",),
+}
+
+
+class Functions(unittest.TestCase):
+    def test_each_function(self):
+        for module_name, texts in FUNCTIONS.items():
+            module = importlib.import_module("soldwhole." + module_name)
+            for text in texts.split("; "):
+                name = text.partition("(")[0]
+                function = getattr(module, name)
+                self.assertTrue(inspect.isfunction(function), text)
+                self.assertEqual(function.__module__, module.__name__, text)
+                self.assertEqual(name + str(inspect.signature(function)), text)
+
+
+class Errors(unittest.TestCase):
+    def test_families(self):
+        self.assertEqual(errors.SoldError.__bases__, (ValueError,))
+        for name in ERRORS:
+            self.assertEqual(getattr(errors, name).__bases__, (errors.SoldError,), name)
+            self.assertEqual(getattr(errors, name).__module__, "soldwhole.errors")
+
+    def test_fields_are_the_objects_given(self):
+        for name, fields in ERRORS.items():
+            for kind in (list, dict, object):
+                given = [kind() for _ in fields]
+                error = getattr(errors, name)(*given)
+                for field, thing in zip(fields, given):
+                    self.assertIs(getattr(error, field), thing)
+
+    def test_any_values_will_do(self):
+        for thing in (None, True, 10 ** 999, "", "%s {} \n", [[]], ({},), {"a": [1]}, errors.Wrong(1)):
+            for name, fields in ERRORS.items():
+                error = getattr(errors, name)(*[thing for _ in fields])
+                for field in fields:
+                    self.assertIs(getattr(error, field), thing)
+
+    def test_fields_may_be_named(self):
+        for name, fields in ERRORS.items():
+            error = getattr(errors, name)(**{field: field for field in fields})
+            for field in fields:
+                self.assertEqual(getattr(error, field), field)
+
+    def test_caught_as_value_errors(self):
+        with self.assertRaises(ValueError):
+            raise errors.Nothing()
+        with self.assertRaises(errors.SoldError) as caught:
+            raise errors.NoText(1, 2)
+        self.assertEqual((caught.exception.line, caught.exception.column), (1, 2))
+
+
+if __name__ == "__main__":
+    unittest.main()
