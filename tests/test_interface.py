@@ -19,6 +19,14 @@ FUNCTIONS = {
     "most_of(curve); pay_at(curve, level); rises_at(curve, level); rose_to(curve, level)",
     "curvebacks": "level_for(curve, pay); first_over(one, other); same_up_to(one, other); by_pay(curve, other); "
     "is_under(one, other)",
+    "claims": "curve_of(ranks, claim); options_curve(ranks, options); scaled_claim(claim, factor); tidied(claim); "
+    "has_due(claim); ranks_needed(claim); claims_in(claim)",
+    "papertexts": "show_claim(claim); show_web(web); read_claim(ranks, text); read_web(text)",
+    "deeds": "is_deed(thing); are_entries(thing); deed_text(deed); deed_of(text)",
+    "ledgers": "order_of(entries); days_of(entries); settled(entries); first_wrong(entries); web_of(entries, day); "
+    "counts_of(entries, day); waiting(entries, day)",
+    "waterfalls": "claim_now(ranks, claim, level); paper_now(ranks, paper, level); paid_out(ranks, papers, amount); "
+    "steps(ranks, papers, amount); level_reached(ranks, papers, amount); left_over(ranks, papers, amount)",
 }
 
 ERRORS = {

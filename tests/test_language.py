@@ -9,7 +9,7 @@ import unittest
 PACKAGE = pathlib.Path(__file__).resolve().parent.parent / "soldwhole"
 
 # The modules in the order in which they should be written: each may use those above it.
-ORDER = "errors fractions forms curves curvebacks".split()
+ORDER = "errors fractions forms curves curvebacks claims papertexts deeds ledgers waterfalls".split()
 
 LIBRARY = {"math": {"gcd", "lcm", "isqrt", "comb", "perm", "factorial"}, "heapq": {"heappush", "heappop", "heapify"}}
 
