@@ -27,6 +27,17 @@ FUNCTIONS = {
     "counts_of(entries, day); waiting(entries, day)",
     "waterfalls": "claim_now(ranks, claim, level); paper_now(ranks, paper, level); paid_out(ranks, papers, amount); "
     "steps(ranks, papers, amount); level_reached(ranks, papers, amount); left_over(ranks, papers, amount)",
+    "onefirm": "level_of(curves, amount); amount_for(curves, index, pay); payments(curves, amount); by_amount(curves); "
+    "order_of(curves)",
+    "levelpapers": "level_paper(curves, amount); is_level_paper(curves, amount, thing); "
+    "are_paid(curves, amount, thing); parting_of(curves, one, other)",
+    "webs": "persons_of(web); first_unfounded(web); is_founded(web); is_clear(web); is_circle(web, thing); "
+    "is_dues_order(web, thing); circle_of(web); dues_order(web)",
+    "chosen": "chosen_curves(web, choices); most_curves(web); first_choices(web); "
+    "exchanged(choices, firm, index, option); open_holdings(web, person); choices_of(web, choices, person)",
+    "solving": "solved(rows, right)",
+    "rows": "has_of(web, amounts, payments); levels_of(web, choices, payments); "
+    "are_right(web, amounts, choices, thing); least_row(web, amounts, choices); greatest_row(web, amounts, choices)",
 }
 
 ERRORS = {
