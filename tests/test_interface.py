@@ -38,6 +38,13 @@ FUNCTIONS = {
     "solving": "solved(rows, right)",
     "rows": "has_of(web, amounts, payments); levels_of(web, choices, payments); "
     "are_right(web, amounts, choices, thing); least_row(web, amounts, choices); greatest_row(web, amounts, choices)",
+    "webpapers": "parting_lot(web, one, other); is_parting_lot(web, one, other, thing)",
+    "signs": "told(web, amounts, choices); paid_to(web, payments); change_of(web, amounts, choices, others); "
+    "claimed(web, levels, firm, index, option); sign_of(web, amounts, choices, firm, index, option)",
+    "outcomes": "outcome(web, amounts); main_paper(web, amounts); most_choices(web, amounts); "
+    "is_most(web, amounts, choices); is_main_paper(web, amounts, thing)",
+    "calm": "bettered_by(web, amounts, choices, person); is_calm(web, amounts, choices); calm_ones(web, amounts)",
+    "groups": "group_change(web, amounts, choices, others, persons); best_for(web, amounts, choices, persons)",
 }
 
 ERRORS = {

@@ -11,7 +11,7 @@ PACKAGE = pathlib.Path(__file__).resolve().parent.parent / "soldwhole"
 # The modules in the order in which they should be written: each may use those above it.
 ORDER = (
     "errors fractions forms curves curvebacks claims papertexts deeds ledgers waterfalls onefirm levelpapers webs chosen "
-    "solving flows nets rows"
+    "solving flows nets rows webpapers signs outcomes bests calm groups"
 ).split()
 
 LIBRARY = {"math": {"gcd", "lcm", "isqrt", "comb", "perm", "factorial"}, "heapq": {"heappush", "heappop", "heapify"}}
