@@ -92,16 +92,30 @@ def round_in(slopes, lot):
     return [told.get(place, ZERO) for place in range(len(slopes))]
 
 
+def many_up_to(corners, much):
+    """How many of the ascending corners are not above an amount."""
+    low, high = 0, len(corners)
+    while low < high:
+        middle = (low + high) // 2
+        if compared(corners[middle], much) <= 0:
+            low = middle + 1
+        else:
+            high = middle
+    return low
+
+
 def corner_above(corners, much):
     """The least corner above an amount, None if there is none."""
-    above = [corner for corner in corners if compared(corner, much) > 0]
-    return above[0] if above else None
+    place = many_up_to(corners, much)
+    return corners[place] if place < len(corners) else None
 
 
 def corner_below(corners, much):
     """The greatest corner below an amount, None if there is none."""
-    below = [corner for corner in corners if compared(corner, much) < 0]
-    return below[-1] if below else None
+    place = many_up_to(corners, much) - 1
+    if place >= 0 and corners[place] == much:
+        place -= 1
+    return corners[place] if place >= 0 else None
 
 
 def rooms(flows, had, way, corner_at):

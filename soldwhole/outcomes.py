@@ -14,7 +14,12 @@ from soldwhole.webs import check_clear, firm_names
 def outcome(web, amounts):
     """The tuple (levels, payments) that comes if each holding has the GREATEST curve of its options."""
     check_clear(web)
-    return Net(web).told_row(amounts, free_choices(web))
+    return most_row(Net(web), amounts)
+
+
+def most_row(net, amounts):
+    """The same of a CLEAR web that is made ready."""
+    return net.told_row(amounts, free_choices(net.firms))
 
 
 def claims_at(web, levels):

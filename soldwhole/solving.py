@@ -1,13 +1,16 @@
 """Linear rows: solved exactly, in whole numbers."""
 
-from math import gcd, lcm
+from math import lcm
 
 from soldwhole.fractions import reduced
 
 
 def solved(rows, right):
     """The tuple of the FRACTIONS that solve all rows, None if there are none, or several."""
-    grid = [whole_row((*row, one)) for row, one in zip(rows, right)]
+    # So many of each unknown are told that its column is whole, and the right side by itself: so all stays small.
+    scales = [common_multiple([row[place] for row in rows]) for place in range(len(right))]
+    whole = common_multiple(right)
+    grid = [[*whole_row(row, scales), *whole_row((one,), (whole,))] for row, one in zip(rows, right)]
     divisor = 1
     for place in range(len(grid)):
         pivot = pivot_place(grid, place)
@@ -18,19 +21,20 @@ def solved(rows, right):
         grid = [row if at == place else cleared(row, lead, place, divisor) for at, row in enumerate(grid)]
         divisor = lead[place]
     # All entries but those on the diagonal are 0 now, and those on it are all alike.
-    return tuple([reduced(row[-1], divisor) for row in grid])
+    return tuple([reduced(row[-1] * scale, divisor * whole) for row, scale in zip(grid, scales)])
 
 
-def whole_row(row):
-    """The list of whole numbers that are so many times the FRACTIONS of a row, none greater than need be."""
+def common_multiple(fractions):
+    """The least common multiple of the d of FRACTIONS."""
     scale = 1
-    for one in row:
+    for one in fractions:
         scale = lcm(scale, one[1])
-    whole = [n * (scale // d) for n, d in row]
-    common = 0
-    for n in whole:
-        common = gcd(common, n)
-    return [n // common for n in whole] if common > 1 else whole
+    return scale
+
+
+def whole_row(row, scales):
+    """The list of the entries of a row, each so many times, which are whole numbers."""
+    return [n * (scale // d) for (n, d), scale in zip(row, scales)]
 
 
 def pivot_place(grid, place):

@@ -45,6 +45,13 @@ FUNCTIONS = {
     "is_most(web, amounts, choices); is_main_paper(web, amounts, thing)",
     "calm": "bettered_by(web, amounts, choices, person); is_calm(web, amounts, choices); calm_ones(web, amounts)",
     "groups": "group_change(web, amounts, choices, others, persons); best_for(web, amounts, choices, persons)",
+    "switches": "gainful(web, amounts, choices); led_on(web, amounts, choices, picks); ended(web, amounts, choices)",
+    "walks": "walk(web, one, other); pay_line(web, walk, person); changes(web, walk, firm, index); "
+    "is_walk(web, one, other, thing); had_on(walk, t); paid_on(web, walk, t); most_on(web, walk, t)",
+    "amountsfor": "least_part(web, one, other, person, pay); least_for_all(web, one, other, pays)",
+    "compared": "better(web, rival, one, other, person); alike(web, rival, one, other); always_alike(web, rival); "
+    "first_unlike(web, rival, one, other); first_amount(web, rival)",
+    "rounds": "is_round(thing); worths_at(deal, price); worth_at(deal, price); price_of(deal); worth_curve(deal)",
 }
 
 ERRORS = {

@@ -11,7 +11,8 @@ PACKAGE = pathlib.Path(__file__).resolve().parent.parent / "soldwhole"
 # The modules in the order in which they should be written: each may use those above it.
 ORDER = (
     "errors fractions forms curves curvebacks claims papertexts deeds ledgers waterfalls onefirm levelpapers webs chosen "
-    "solving flows nets rows webpapers signs outcomes bests calm groups"
+    "solving flows nets rows webpapers signs outcomes bests calm groups switches courses walks amountsfor compared "
+    "rounds"
 ).split()
 
 LIBRARY = {"math": {"gcd", "lcm", "isqrt", "comb", "perm", "factorial"}, "heapq": {"heappush", "heappop", "heapify"}}
@@ -44,7 +45,7 @@ BARRED_WORDS = re.compile(
 
 BARRED_NODES = (
     ast.GeneratorExp, ast.Global, ast.Nonlocal, ast.AsyncFunctionDef, ast.Await, ast.Yield, ast.YieldFrom, ast.Set,
-    ast.SetComp, ast.Div, ast.MatMult, ast.With, ast.Try, ast.Match, ast.NamedExpr, ast.AnnAssign, ast.Assert,
+    ast.SetComp, ast.Div, ast.MatMult, ast.With, ast.Match, ast.NamedExpr, ast.AnnAssign, ast.Assert,
 )
 
 
@@ -61,12 +62,14 @@ def imported(tree):
 
 
 def bound_names(tree):
-    """All names that functions bind, with the nodes: parameters, locals, loop variables."""
+    """All names that functions bind, with the nodes: parameters, locals, loop variables, caught errors."""
     for node in ast.walk(tree):
         if isinstance(node, ast.arg):
             yield node.arg, node
         elif isinstance(node, ast.Name) and isinstance(node.ctx, ast.Store):
             yield node.id, node
+        elif isinstance(node, ast.ExceptHandler) and node.name:
+            yield node.name, node
 
 
 class Files(unittest.TestCase):
@@ -148,6 +151,38 @@ class Shapes(unittest.TestCase):
                 if isinstance(node, ast.Compare) and isinstance(node.ops[0], (ast.Is, ast.IsNot)):
                     self.assertIsNone(node.comparators[0].value, where)
 
+    def test_own_errors_alone_are_caught(self):
+        own = {node.name for node in ast.parse((PACKAGE / "errors.py").read_text()).body
+               if isinstance(node, ast.ClassDef)}
+        for path, tree in trees():
+            for function in [node for node in ast.walk(tree) if isinstance(node, ast.FunctionDef)]:
+                caught = []
+                for node in [node for node in ast.walk(function) if isinstance(node, ast.Try)]:
+                    self.assertFalse(node.finalbody or node.orelse, (path.name, node.lineno))
+                    self.assertTrue(all(handler.type.id in own for handler in node.handlers), (path.name, node.lineno))
+                    caught.extend(handler.name for handler in node.handlers if handler.name)
+                self.assertEqual(len(caught), len(set(caught)), (path.name, function.name))
+                others = [name for name, node in bound_names(function) if not isinstance(node, ast.ExceptHandler)]
+                self.assertFalse(set(caught) & set(others), (path.name, function.name))
+
+    def test_errors_are_made_where_they_are_raised(self):
+        for path, tree in trees():
+            for node in ast.walk(tree):
+                if isinstance(node, ast.Raise):
+                    self.assertIsInstance(node.exc, ast.Call, (path.name, node.lineno))
+                    self.assertIn(node.exc.func.id, imported(tree), (path.name, node.lineno))
+
+    def test_what_compares_compares_plainly(self):
+        """Each __eq__ is one row: is it of the class, and are these attributes alike."""
+        for path, tree in trees():
+            for one in [node for node in ast.walk(tree) if isinstance(node, ast.ClassDef)]:
+                for method in [node for node in one.body if getattr(node, "name", "") == "__eq__"]:
+                    self.assertEqual(len(method.body), 1, path)
+                    parts = [ast.unparse(part) for part in method.body[0].value.values]
+                    self.assertEqual(parts[0], f"isinstance(other, {one.name})")
+                    for part in parts[1:]:
+                        self.assertRegex(part, r"\Aself\.(\w+) == other\.\1\Z", path)
+
     def test_sets_are_not_kept(self):
         for path, tree in trees():
             for node in ast.walk(tree):
@@ -166,6 +201,11 @@ class Shapes(unittest.TestCase):
 
 
 class Names(unittest.TestCase):
+    def test_what_is_imported_is_used(self):
+        for path, tree in trees():
+            used = {node.id for node in ast.walk(tree) if isinstance(node, ast.Name)}
+            self.assertFalse(imported(tree) - used, path)
+
     def test_bound_names(self):
         for path, tree in trees():
             classes = {node.name for node in ast.walk(tree) if isinstance(node, ast.ClassDef)}
@@ -178,7 +218,7 @@ class Names(unittest.TestCase):
     def test_defined_names(self):
         for path, tree in trees():
             for node in ast.walk(tree):
-                if isinstance(node, (ast.FunctionDef, ast.ClassDef)) and node.name != "__init__":
+                if isinstance(node, (ast.FunctionDef, ast.ClassDef)) and node.name not in ("__init__", "__eq__"):
                     self.assertRegex(node.name, r"\A[A-Za-z][A-Za-z0-9_]*\Z", path)
                     self.assertNotIn(node.name, BARRED_NAMES | TAKEN, path)
 
@@ -207,7 +247,7 @@ class Names(unittest.TestCase):
         taken = set().union(*(dir(kind) for kind in (str, int, list, dict, set, bytes)))
         for path, tree in trees():
             methods = {node.name for one in ast.walk(tree) if isinstance(one, ast.ClassDef)
-                       for node in one.body if isinstance(node, ast.FunctionDef)} - {"__init__"}
+                       for node in one.body if isinstance(node, ast.FunctionDef)} - {"__init__", "__eq__"}
             stored = {node.attr for node in ast.walk(tree)
                       if isinstance(node, ast.Attribute) and isinstance(node.ctx, ast.Store)} - {"count", "index"}
             self.assertFalse((methods | stored) & taken, path)
