@@ -52,6 +52,20 @@ FUNCTIONS = {
     "compared": "better(web, rival, one, other, person); alike(web, rival, one, other); always_alike(web, rival); "
     "first_unlike(web, rival, one, other); first_amount(web, rival)",
     "rounds": "is_round(thing); worths_at(deal, price); worth_at(deal, price); price_of(deal); worth_curve(deal)",
+    "roundpapers": "counts_at(deal, price); parts_of(deal); things_behind(deal); round_paper(deal); "
+    "is_round_paper(deal, thing)",
+    "offers": "pays(web, offers); gains(web, one, other); gainers(web, one, other); losers(web, one, other); "
+    "votes_for(classes, persons); is_class(thing); is_carried(classes, persons); "
+    "is_carried_alone(web, one, other, classes)",
+    "sidepay": "least_side_pay(web, one, other, classes); is_side_pay(web, one, other, classes, thing); "
+    "side_sum(side); bearers(web, one, other, side)",
+    "books": "book_of(web, amounts); is_book(thing); unlike_in(book, other)",
+}
+
+CLASSES = {
+    ("kept", "Kept(web)"): "put_firm(firm); take_firm(name); put_amount(name, amount); put_holding(name, holding); "
+    "take_holding(name, index); web(); amounts(); paid(); moved(); outcome(); undo(); twin(); __eq__(other)",
+    ("desk", "Desk()"): "execute(line); told_entries(); told_amounts(); twin(); __eq__(other)",
 }
 
 ERRORS = {
@@ -77,6 +91,19 @@ class Functions(unittest.TestCase):
                 self.assertTrue(inspect.isfunction(function), text)
                 self.assertEqual(function.__module__, module.__name__, text)
                 self.assertEqual(name + str(inspect.signature(function)), text)
+
+
+class Classes(unittest.TestCase):
+    def test_each_method_stands_in_the_class_itself(self):
+        for (module_name, head), texts in CLASSES.items():
+            module = importlib.import_module("soldwhole." + module_name)
+            own = getattr(module, head.partition("(")[0])
+            self.assertEqual(own.__module__, module.__name__)
+            self.assertEqual(own.__name__ + str(inspect.signature(own)), head)
+            for text in texts.split("; "):
+                method = vars(own)[text.partition("(")[0]]
+                told = str(inspect.signature(method)).replace("(self, ", "(").replace("(self)", "()")
+                self.assertEqual(method.__name__ + told, text)
 
 
 class Errors(unittest.TestCase):

@@ -12,7 +12,7 @@ PACKAGE = pathlib.Path(__file__).resolve().parent.parent / "soldwhole"
 ORDER = (
     "errors fractions forms curves curvebacks claims papertexts deeds ledgers waterfalls onefirm levelpapers webs chosen "
     "solving flows nets rows webpapers signs outcomes bests calm groups switches courses walks amountsfor compared "
-    "rounds"
+    "rounds roundpapers offers sidepay books kept desk"
 ).split()
 
 LIBRARY = {"math": {"gcd", "lcm", "isqrt", "comb", "perm", "factorial"}, "heapq": {"heappush", "heappop", "heapify"}}
