@@ -104,7 +104,7 @@ class Least(unittest.TestCase):
 class Forms(unittest.TestCase):
     def test_by_the_words(self):
         kinds = {True: 0, False: 0}
-        for chance, web, one, other, classes in drawn(392, 150):
+        for chance, web, one, other, classes in drawn(392, 80):
             losses = lost_in(meant_gains(web, one, other))
             for side in all_sides(losses):
                 for more in (0, TINY, -TINY, 3):
