@@ -5,9 +5,9 @@ A firm's CURVES BY AMOUNT tell for each holding what it is paid of all that the 
 
 from soldwhole.chosen import free_choices, most_curves
 from soldwhole.curvebacks import by_pay
-from soldwhole.curves import added_up, levels_of, rises_at
+from soldwhole.curves import added_up, last_up_to, levels_of, rises_at
 from soldwhole.flows import corner_above, less_slopes, moved, rooms, settled_had, slopes_of
-from soldwhole.fractions import ONE, ZERO, added, compared, least_of, lessened, over, times
+from soldwhole.fractions import ONE, ZERO, added, least_of, lessened, over, times
 from soldwhole.nets import Net
 from soldwhole.solving import solved
 
@@ -57,12 +57,6 @@ def part_way(low, high, part):
 
 def around(rows, t):
     """The two neighbours of at least two rows (t, ..) between which a t lies, and how far it lies between them."""
-    low, high = 0, len(rows) - 1
-    while high - low > 1:
-        middle = (low + high) // 2
-        if compared(rows[middle][0], t) <= 0:
-            low = middle
-        else:
-            high = middle
-    begin, end = rows[low][0], rows[high][0]
-    return rows[low], rows[high], over(lessened(t, begin), lessened(end, begin))
+    place = min(last_up_to(rows, t), len(rows) - 2)
+    low, high = rows[place], rows[place + 1]
+    return low, high, over(lessened(t, low[0]), lessened(high[0], low[0]))

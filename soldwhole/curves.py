@@ -50,17 +50,21 @@ def most_of(curve):
     return curve[0][-1][1] if is_bounded(curve) else None
 
 
-def place_at(curve, level):
-    """The index of the last corner that is not above a level."""
-    corners = curve[0]
-    low, high = 0, len(corners)
+def last_up_to(rows, level):
+    """The index of the last one of ascending rows (level, ..) that is not above a level; the first one is not."""
+    low, high = 0, len(rows)
     while high - low > 1:
         middle = (low + high) // 2
-        if compared(corners[middle][0], level) <= 0:
+        if compared(rows[middle][0], level) <= 0:
             low = middle
         else:
             high = middle
     return low
+
+
+def place_at(curve, level):
+    """The index of the last corner that is not above a level."""
+    return last_up_to(curve[0], level)
 
 
 def rise_behind(curve, place):
