@@ -5,6 +5,8 @@ from math import gcd
 ZERO = (0, 1)
 ONE = (1, 1)
 DIGITS_READ = 40
+GREAT_BITS = 1500
+ROUGH_BITS = 128
 
 
 def reduced(n, d):
@@ -45,11 +47,32 @@ def over(one, other):
 
 def compared(one, other):
     """-1, 0 or 1 as one is less than, as great as, or greater than other."""
-    left = one[0] * other[1]
-    right = other[0] * one[1]
+    (n, d), (m, e) = one, other
+    if max(d, e).bit_length() > GREAT_BITS and n > 0 and m > 0:
+        rough = compared_roughly(one, other)
+        if rough != 0:
+            return rough
+    left = n * e
+    right = m * d
     if left < right:
         return -1
     return 1 if left > right else 0
+
+
+def compared_roughly(one, other):
+    """The same of two fractions above 0 if their first bits tell it, otherwise 0: no great numbers are multiplied."""
+    (n, d), (m, e) = first_bits(one), first_bits(other)
+    # One lies from n / (d + 1) to (n + 1) / d, other likewise.
+    if (n + 1) * (e + 1) < m * d:
+        return -1
+    return 1 if n * e > (m + 1) * (d + 1) else 0
+
+
+def first_bits(one):
+    """n and d, both with so many bits cut off that of d few are left."""
+    n, d = one
+    cut = max(0, d.bit_length() - ROUGH_BITS)
+    return n >> cut, d >> cut
 
 
 def least_of(fractions):

@@ -11,6 +11,15 @@ def solved(rows, right):
     scales = [common_multiple([row[place] for row in rows]) for place in range(len(right))]
     whole = common_multiple(right)
     grid = [[*whole_row(row, scales), *whole_row((one,), (whole,))] for row, one in zip(rows, right)]
+    steps = stepped(grid)
+    if steps is None:
+        return None
+    divisor, tops = tops_over_last(steps)
+    return tuple([reduced(top * scale, divisor * whole) for top, scale in zip(tops, scales)])
+
+
+def stepped(grid):
+    """The rows led to such in which the first entries other than 0 stand in steps, None if there are not so many."""
     divisor = 1
     for place in range(len(grid)):
         pivot = pivot_place(grid, place)
@@ -18,10 +27,20 @@ def solved(rows, right):
             return None
         grid[place], grid[pivot] = grid[pivot], grid[place]
         lead = grid[place]
-        grid = [row if at == place else cleared(row, lead, place, divisor) for at, row in enumerate(grid)]
+        grid = grid[:place + 1] + [cleared(row, lead, place, divisor) for row in grid[place + 1:]]
         divisor = lead[place]
-    # All entries but those on the diagonal are 0 now, and those on it are all alike.
-    return tuple([reduced(row[-1] * scale, divisor * whole) for row, scale in zip(grid, scales)])
+    return grid
+
+
+def tops_over_last(steps):
+    """The last step, and the list of so many times each unknown, which are whole numbers."""
+    many = len(steps)
+    divisor, tops = steps[-1][-2] if steps else 1, [0] * many
+    for place in reversed(range(many)):
+        row = steps[place]
+        behind = sum([row[other] * tops[other] for other in range(place + 1, many)])
+        tops[place] = (divisor * row[-1] - behind) // row[place]
+    return divisor, tops
 
 
 def common_multiple(fractions):
@@ -47,4 +66,5 @@ def pivot_place(grid, place):
 
 def cleared(row, lead, place, divisor):
     """A row made 0 in the column place by the row lead; each entry can be divided by the last divisor."""
-    return [(lead[place] * one - row[place] * other) // divisor for one, other in zip(row, lead)]
+    factor, rest = row[place], list(zip(row, lead))[place + 1:]
+    return [0] * (place + 1) + [(lead[place] * one - factor * other) // divisor for one, other in rest]

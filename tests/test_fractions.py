@@ -4,7 +4,7 @@ import itertools
 import unittest
 from fractions import Fraction
 
-from making import meant, told
+from making import meant, source, told
 from soldwhole.fractions import (
     added, ascending, compared, fraction_in, fraction_text, greatest_of, integer_in, integer_text, least_of, lessened,
     over, reduced, times, total,
@@ -30,6 +30,21 @@ class Reckoning(unittest.TestCase):
                 self.assertEqual(over(one, other), told(first / second))
             self.assertEqual(compared(one, other), (first > second) - (first < second))
             self.assertIsNot(compared(one, other), True)
+
+    def test_great_ones_however_near(self):
+        """Of thousands of digits: unlike in the first ones, in the last ones alone, or not at all."""
+        chance = source(12)
+        near = {True: 0, False: 0}
+        for _ in range(300):
+            d, digits = chance.getrandbits(chance.choice((40, 1400, 1600, 6000))) + 1, chance.choice((1, 30, 36, 39, 500, 2000))
+            first = Fraction(chance.getrandbits(chance.choice((1, 900, 6000, 9000))), d)
+            beside = first * (1 + chance.choice((-1, 0, 1)) * Fraction(1, 10 ** digits + chance.randrange(99)))
+            for second in (beside, -beside, Fraction(chance.getrandbits(3000), d + 1), Fraction(chance.randrange(9)), Fraction(0)):
+                order = (first > second) - (first < second)
+                self.assertEqual([compared(told(first), told(second)), compared(told(second), told(first))], [order, -order])
+                self.assertEqual(compared(told(-first), told(-second)), -order)
+                near[order == 0] += 1
+        self.assertTrue(all(many > 100 for many in near.values()), near)
 
     def test_many(self):
         for place in range(len(SOME)):
